@@ -1,5 +1,7 @@
 """The houses: where candidates are, and which of them stand."""
 
+from groundseen.grid import box_cells
+
 CANDIDATE_PURPOSE = 5
 WIDTH_PURPOSE = 6
 DEPTH_PURPOSE = 7
@@ -28,10 +30,7 @@ def side(raw):
 
 
 def is_flat(ground, left, top, width, depth):
-    heights = []
-    for y in range(top, top + depth):
-        for x in range(left, left + width):
-            heights.append(ground.made_height(x, y))
+    heights = [ground.made_height(place[0], place[1]) for place in box_cells(left, top, width, depth)]
     return max(heights) - min(heights) <= FLAT_WITHIN
 
 
@@ -96,3 +95,11 @@ def houses_over(ground, left, top, right, bottom):
 
 def is_covered(houses, x, y):
     return any([house.covers(x, y) for house in houses])
+
+
+# The house that stands and covers this cell, or None; no two that stand have a cell in common.
+def house_at(ground, x, y):
+    for house in houses_over(ground, x, y, x, y):
+        if house.covers(x, y):
+            return house
+    return None

@@ -1,5 +1,6 @@
 """The pieces: how one is made, and which ones are kept."""
 
+from groundseen.grid import box_cells
 from groundseen.houses import houses_over, is_covered
 
 PIECE_SIDE = 8
@@ -24,24 +25,20 @@ def made_kind(ground, houses, x, y):
 
 # The x and y of each cell of a piece, y by y, in each x by x.
 def cells_of(i, j):
-    left = PIECE_SIDE * i
-    top = PIECE_SIDE * j
-    places = []
-    for y in range(top, top + PIECE_SIDE):
-        for x in range(left, left + PIECE_SIDE):
-            places.append((x, y))
-    return places
+    return box_cells(PIECE_SIDE * i, PIECE_SIDE * j, PIECE_SIDE, PIECE_SIDE)
 
 
-# A dict from each cell of the piece to its made height and its made kind.
-def made_piece(ground, i, j):
-    left = PIECE_SIDE * i
-    top = PIECE_SIDE * j
-    houses = houses_over(ground, left, top, left + PIECE_SIDE - 1, top + PIECE_SIDE - 1)
+# A dict from each cell of the box to its made height and its made kind.
+def made_cells(ground, left, top, width, depth):
+    houses = houses_over(ground, left, top, left + width - 1, top + depth - 1)
     made = {}
-    for x, y in cells_of(i, j):
+    for x, y in box_cells(left, top, width, depth):
         made[(x, y)] = (ground.made_height(x, y), made_kind(ground, houses, x, y))
     return made
+
+
+def made_piece(ground, i, j):
+    return made_cells(ground, PIECE_SIDE * i, PIECE_SIDE * j, PIECE_SIDE, PIECE_SIDE)
 
 
 # The kept pieces, the one looked at last behind all others, and how many were made.

@@ -1,11 +1,14 @@
 """The world that a line's calls work on."""
 
 from groundseen.changes import Changes
+from groundseen.grid import cell_count, place_of
 from groundseen.ground import Ground
-from groundseen.pieces import Pieces
+from groundseen.pieces import Pieces, made_cells
+from groundseen.raws import P
 
 LOWEST = 0
 HIGHEST = 9999
+FIRST_SUM = 7
 
 
 # The made ground, the pieces that are kept, the changes.
@@ -25,9 +28,27 @@ class World:
     def height_now(self, x, y):
         return self.raised(self.ground.made_height(x, y), x, y)
 
-    # Height and kind as they are now, of a cell of a piece that was looked at.
-    def cell_now(self, piece, x, y):
-        made = piece[(x, y)]
+    def height_of(self, number):
+        place = place_of(self.ground, number)
+        return self.height_now(place[0], place[1])
+
+    # The height now of each cell by its number.
+    def heights(self):
+        return [self.height_of(number) for number in range(cell_count(self.ground))]
+
+    # Height and kind as they are now, of a cell that made has.
+    def cell_now(self, made, x, y):
+        cell = made[(x, y)]
         built = self.changes.built_at(x, y)
-        kind = made[1] if built == 0 else built
-        return [self.raised(made[0], x, y), kind]
+        kind = cell[1] if built == 0 else built
+        return [self.raised(cell[0], x, y), kind]
+
+    # One number over all cells, which are made beside the pieces so that none is looked at.
+    def sum_now(self):
+        made = made_cells(self.ground, 0, 0, self.ground.width, self.ground.depth)
+        total = FIRST_SUM
+        for number in range(cell_count(self.ground)):
+            place = place_of(self.ground, number)
+            cell = self.cell_now(made, place[0], place[1])
+            total = (total * 31 + cell[0] * 10 + cell[1]) % P
+        return total

@@ -1,9 +1,12 @@
 """The calls on a world, and how a list of them is answered."""
 
-from groundseen.houses import houses_over, is_covered
+from groundseen.grid import cell_count, edge_numbers, is_edge, number_of, place_of
+from groundseen.houses import house_at, houses_within
 from groundseen.pieces import PIECE_SIDE, cells_of
-from groundseen.state import World
-from groundseen.water import edge_numbers, number_of, pass_of, wet_cells
+from groundseen.springs import is_spring
+from groundseen.state import HIGHEST, LOWEST, World
+from groundseen.water import pass_of, wet_cells
+from groundseen.ways import cells_in_reach, is_way
 
 NOT_IN_RANGE = -1
 CANNOT_BE = -3
@@ -17,6 +20,10 @@ MOST_DUG = 500
 GREATEST_CHANGE = 9999
 LEAST_BUILT = 4
 GREATEST_BUILT = 9
+GREATEST_PURPOSE = 9
+GREATEST_RAW_PLACE = 100
+LONGEST_WAY = 200
+WAY = 16
 
 
 def begin_answer(world, numbers):
@@ -92,7 +99,7 @@ def build_answer(world, numbers):
     kind = numbers[2]
     if not world.ground.has_cell(x, y) or not LEAST_BUILT <= kind <= GREATEST_BUILT:
         return [NOT_IN_RANGE]
-    if is_covered(houses_over(world.ground, x, y, x, y), x, y):
+    if house_at(world.ground, x, y) is not None:
         return [CANNOT_BE]
     if not world.changes.has_place(x, y):
         return [NO_PLACE]
@@ -127,7 +134,103 @@ def water_answer(world, numbers):
     return [0, pass_of(wet)] + [cell[1] for cell in wet]
 
 
-# By a call's number: what answers it, and how many numbers it has.
+def springs_answer(world, numbers):
+    i = numbers[0]
+    j = numbers[1]
+    if not world.pieces.has_piece(i, j):
+        return [NOT_IN_RANGE]
+    answer = [0]
+    for x, y in cells_of(i, j):
+        if is_spring(world.ground, x, y):
+            answer.extend([x, y])
+    return answer
+
+
+def houses_answer(world, numbers):
+    i = numbers[0]
+    j = numbers[1]
+    if not world.pieces.has_piece(i, j):
+        return [NOT_IN_RANGE]
+    left = PIECE_SIDE * i
+    top = PIECE_SIDE * j
+    answer = [0]
+    for house in houses_within(world.ground, left, top, left + PIECE_SIDE - 1, top + PIECE_SIDE - 1):
+        answer.extend([house.x, house.y, house.width, house.depth])
+    return answer
+
+
+def house_answer(world, numbers):
+    x = numbers[0]
+    y = numbers[1]
+    if not world.ground.has_cell(x, y):
+        return [NOT_IN_RANGE]
+    house = house_at(world.ground, x, y)
+    if house is None:
+        return [THERE_IS_NONE]
+    return [0, house.x, house.y, house.width, house.depth]
+
+
+def pass_answer(world, numbers):
+    if not world.ground.has_cell(numbers[0], numbers[1]) or not world.ground.has_cell(numbers[2], numbers[3]):
+        return [NOT_IN_RANGE]
+    start = number_of(world.ground, numbers[0], numbers[1])
+    end = number_of(world.ground, numbers[2], numbers[3])
+    wet = wet_cells(world, start, {end: True})
+    return [0, pass_of(wet), len(wet)]
+
+
+def raw_answer(world, numbers):
+    purpose = numbers[0]
+    x = numbers[1]
+    y = numbers[2]
+    if not 1 <= purpose <= GREATEST_PURPOSE:
+        return [NOT_IN_RANGE]
+    if not 0 <= x <= GREATEST_RAW_PLACE or not 0 <= y <= GREATEST_RAW_PLACE:
+        return [NOT_IN_RANGE]
+    return [0, world.ground.raw(purpose, x, y)]
+
+
+def sum_answer(world, numbers):
+    return [0, world.sum_now()]
+
+
+def way_answer(world, row):
+    if not 1 <= len(row) <= LONGEST_WAY:
+        return [NOT_IN_RANGE]
+    if min(row) < 0 or max(row) >= cell_count(world.ground):
+        return [NOT_IN_RANGE]
+    if not is_way(world.ground, row):
+        return [0, 0]
+    greatest = max([world.height_of(number) for number in row])
+    return [0, 1, greatest, 1 if is_edge(world.ground, row[-1]) else 0]
+
+
+def level_answer(world, numbers):
+    x = numbers[0]
+    y = numbers[1]
+    most = numbers[2]
+    if not world.ground.has_cell(x, y) or not LOWEST <= most <= HIGHEST:
+        return [NOT_IN_RANGE]
+    found = cells_in_reach(world, number_of(world.ground, x, y), most)
+    at_edge = any([is_edge(world.ground, number) for number in found])
+    return [0, len(found), 1 if at_edge else 0]
+
+
+def state_answer(world, numbers):
+    ground = world.ground
+    pieces = world.pieces
+    return [0, ground.width, ground.depth, pieces.room, len(pieces.kept), pieces.made_count, len(world.changes.cells)]
+
+
+def highest_answer(world, numbers):
+    heights = world.heights()
+    greatest = max(heights)
+    # The first of equal ones is the one with the least number.
+    place = place_of(world.ground, heights.index(greatest))
+    return [0, place[0], place[1], greatest, min(heights)]
+
+
+# By a call's number: what answers it, and how many numbers it has (way has a row in their place).
 CALLS = (
     (begin_answer, 4),
     (cell_answer, 2),
@@ -139,7 +242,24 @@ CALLS = (
     (undo_answer, 2),
     (changes_answer, 0),
     (water_answer, 2),
+    (springs_answer, 2),
+    (houses_answer, 2),
+    (house_answer, 2),
+    (pass_answer, 4),
+    (raw_answer, 3),
+    (sum_answer, 0),
+    (way_answer, 0),
+    (level_answer, 3),
+    (state_answer, 0),
+    (highest_answer, 0),
 )
+
+
+# Where the numbers of the call at this place begin, and where the next call does.
+def bounds(calls, at):
+    if calls[at] == WAY:
+        return (at + 2, at + 2 + calls[at + 1])
+    return (at + 1, at + 1 + CALLS[calls[at]][1])
 
 
 # For each call, in order: how many numbers are answered, then these.
@@ -149,9 +269,9 @@ def answers(calls):
     at = 0
     while at < len(calls):
         replier = CALLS[calls[at]][0]
-        first = at + 1
-        at = first + CALLS[calls[at]][1]
-        answer = replier(world, calls[first:at])
+        ends = bounds(calls, at)
+        answer = replier(world, calls[ends[0]:ends[1]])
         given.append(len(answer))
         given.extend(answer)
+        at = ends[1]
     return given

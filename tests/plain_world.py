@@ -81,6 +81,10 @@ def cells(house):
     return [(x + k, y + m) for m in range(depth) for k in range(width)]
 
 
+def piece_places(i, j):
+    return [(8 * i + k, 8 * j + m) for m in range(8) for k in range(8)]
+
+
 def touch(one, other):
     """Whether two houses have a cell in common, or cells with a side or a corner in common."""
     return any(abs(a - c) <= 1 and abs(b - d) <= 1 for a, b in cells(one) for c, d in cells(other))
@@ -138,7 +142,8 @@ class PlainWorld:
         return len(self.changes) == 60 and self.change(place) is None
 
     def answer(self, call):
-        names = ("begin", "cell", "piece", "forget", "kept_pieces", "dig", "build", "undo", "changed", "water")
+        names = ("begin", "cell", "piece", "forget", "kept_pieces", "dig", "build", "undo", "changed", "water",
+                 "springs", "houses", "house", "pass_between", "raw", "sum", "way", "level", "state", "highest")
         return getattr(self, names[call[0]])(*call[1:])
 
     def begin(self, seed, width, depth, room):
@@ -159,7 +164,7 @@ class PlainWorld:
             return [-1]
         self.look((i, j))
         answer = [0]
-        for place in [(8 * i + k, 8 * j + m) for m in range(8) for k in range(8)]:
+        for place in piece_places(i, j):
             answer += [self.height(place), self.kind(place)]
         return answer
 
@@ -211,16 +216,83 @@ class PlainWorld:
     def water(self, x, y):
         if (x, y) not in self.ground.heights:
             return [-1]
+        wet = self.wet((x, y), [place for place in self.ground.places if is_edge(self.ground, place)])
+        return [0, max(map(self.height, wet))] + [self.number(place) for place in wet]
+
+    def wet(self, start, asked):
         wet = []
-        shore = {(x, y)}
-        while not wet or not is_edge(self.ground, wet[-1]):
+        shore = {start}
+        while not wet or wet[-1] not in asked:
             lowest = min(shore, key=lambda place: (self.height(place), self.number(place)))
             wet.append(lowest)
             shore = (shore | set(neighbours(self.ground, lowest))) - set(wet)
-        return [0, max(map(self.height, wet))] + [self.number(place) for place in wet]
+        return wet
 
     def number(self, place):
         return place[1] * self.ground.width + place[0]
+
+    def springs(self, i, j):
+        if not self.is_piece((i, j)):
+            return [-1]
+        answer = [0]
+        for x, y in piece_places(i, j):
+            if raw(self.ground.seed, 9, x, y) % 24 == 0 and self.ground.heights[x, y] >= 1400:
+                answer += [x, y]
+        return answer
+
+    def houses(self, i, j):
+        if not self.is_piece((i, j)):
+            return [-1]
+        corners = {house[:2]: house for house in self.ground.houses}
+        return [0] + [number for place in piece_places(i, j) for number in corners.get(place, ())]
+
+    def house(self, x, y):
+        if (x, y) not in self.ground.heights:
+            return [-1]
+        over = [house for house in self.ground.houses if (x, y) in cells(house)]
+        return [0, *over[0]] if over else [-4]
+
+    def pass_between(self, x1, y1, x2, y2):
+        if (x1, y1) not in self.ground.heights or (x2, y2) not in self.ground.heights:
+            return [-1]
+        wet = self.wet((x1, y1), [(x2, y2)])
+        return [0, max(map(self.height, wet)), len(wet)]
+
+    def raw(self, purpose, x, y):
+        if purpose not in range(1, 10) or x not in range(101) or y not in range(101):
+            return [-1]
+        return [0, raw(self.ground.seed, purpose, x, y)]
+
+    def sum(self):
+        it = 7
+        for place in self.ground.places:
+            it = (it * 31 + self.height(place) * 10 + self.kind(place)) % P
+        return [0, it]
+
+    def way(self, row):
+        if not row or any(number not in range(len(self.ground.places)) for number in row):
+            return [-1]
+        places = [self.ground.places[number] for number in row]
+        if any(after not in neighbours(self.ground, before) for before, after in zip(places, places[1:])):
+            return [0, 0]
+        return [0, 1, max(map(self.height, places)), int(is_edge(self.ground, places[-1]))]
+
+    def level(self, x, y, h):
+        if (x, y) not in self.ground.heights or h not in range(10000):
+            return [-1]
+        come_to, new = set(), {(x, y)}
+        while new:
+            new = {place for place in new if self.height(place) <= h}
+            come_to |= new
+            new = {other for place in new for other in neighbours(self.ground, place)} - come_to
+        return [0, len(come_to), int(any(is_edge(self.ground, place) for place in come_to))]
+
+    def state(self):
+        return [0, self.ground.width, self.ground.depth, self.room, len(self.kept), self.made, len(self.changes)]
+
+    def highest(self):
+        x, y = min(self.ground.places, key=lambda place: (-self.height(place), self.number(place)))
+        return [0, x, y, self.height((x, y)), min(map(self.height, self.ground.places))]
 
 
 def plain_answers(calls):

@@ -4,28 +4,10 @@ import unittest
 
 from groundseen.houses import House, goes_ahead, stands
 from groundseen.raws import raw_number, stirred
-from tests.asking import BEGIN, BUILD, CELL, DIG, FAR, FORGET, KEPT, PIECE, ask, digs, last
-from tests.plain_world import plain_ground, raw, touch
+from tests.asking import BEGIN, BUILD, CELL, DIG, FAR, KEPT, PIECE, SIZES, ask, digs, last, world_by_pieces
+from tests.plain_world import plain_ground, raw
 
-SIZES = [(width, depth) for width in (8, 16, 24, 32) for depth in (8, 16, 24, 32)]
 SEEDS = (0, 1, 7, 12345, 999999999, 1000000000)
-
-
-def pieces_of(width, depth):
-    return [(i, j) for j in range(depth // 8) for i in range(width // 8)]
-
-
-def world_by_pieces(seed, width, depth):
-    """Height and kind of each cell by (x, y), asked piece by piece, 12 pieces a line."""
-    found = {}
-    places = pieces_of(width, depth)
-    for start in range(0, len(places), 12):
-        some = places[start:start + 12]
-        given = ask((BEGIN, seed, width, depth, 2), *[(PIECE, i, j) for i, j in some])
-        for (i, j), answer in zip(some, given[1:]):
-            for k in range(64):
-                found[8 * i + k % 8, 8 * j + k // 8] = answer[1 + 2 * k:3 + 2 * k]
-    return found
 
 
 class RawNumbers(unittest.TestCase):
@@ -146,63 +128,6 @@ class EqualRawNumbers(unittest.TestCase):
 
     def test_the_greater_raw_number_comes_before_all(self):
         self.assertTrue(goes_ahead(House(9, 9, 2, 2, 10), House(8, 8, 2, 2, 9)))
-
-
-class Promises(unittest.TestCase):
-    def test_a_cell_is_the_same_whichever_pieces_came_before(self):
-        for seed in (4, 12345):
-            ground = plain_ground(seed, 32, 16)
-            for x, y in ((7, 7), (8, 8), (31, 0), (16, 15)):
-                wanted = [0, ground.heights[x, y], ground.kinds[x, y]]
-                ways = (
-                    [],
-                    [(PIECE, 3, 1), (PIECE, 0, 0), (PIECE, 2, 0)],
-                    [(PIECE, x // 8, y // 8), (FORGET, x // 8, y // 8)],
-                    [(PIECE, x // 8, y // 8), (PIECE, 1, 1), (PIECE, 0, 1), (PIECE, 3, 0), (PIECE, 2, 1)],
-                    [(CELL, 15, 7), (CELL, 16, 8), (FORGET, 1, 0), (CELL, 15, 7)],
-                )
-                for way in ways:
-                    for room in (1, 8):
-                        self.assertEqual(last((BEGIN, seed, 32, 16, room), *way, (CELL, x, y)), wanted)
-
-    def test_changes_outlive_their_piece(self):
-        ground = plain_ground(4, 16, 8)
-        given = last((BEGIN, 4, 16, 8, 1), (CELL, 2, 2), (DIG, 2, 2, 44), (FORGET, 0, 0), (CELL, 8, 0), (CELL, 2, 2))
-        self.assertEqual(given, [0, ground.heights[2, 2] + 44, ground.kinds[2, 2]])
-
-    def test_houses_never_touch(self):
-        # Cells of kind 3 that hang together must be one full box, with sides of 2 to 4.
-        houses = 0
-        for seed in range(40):
-            found = world_by_pieces(seed, 32, 32)
-            left = {place for place in found if found[place][1] == 3}
-            while left:
-                block = hanging_together(left)
-                left -= block
-                xs, ys = {x for x, y in block}, {y for x, y in block}
-                self.assertEqual(block, {(x, y) for x in xs for y in ys})
-                self.assertTrue({len(xs), len(ys)} <= {2, 3, 4})
-                houses += 1
-        self.assertGreater(houses, 100)
-
-    def test_the_plain_ground_has_rivals_that_do_not_stand(self):
-        fallen = 0
-        for seed in range(10):
-            ground = plain_ground(seed, 32, 32)
-            fallen += len(ground.candidates) - len(ground.houses)
-            for one in ground.houses:
-                self.assertFalse(any(touch(one, other) for other in ground.houses if other != one))
-        self.assertGreater(fallen, 20)
-
-
-def hanging_together(cells):
-    block, new = set(), [min(cells)]
-    while new:
-        x, y = new.pop()
-        block.add((x, y))
-        around = {(x + k, y + m) for k in (-1, 0, 1) for m in (-1, 0, 1)}
-        new.extend((around & cells) - block)
-    return block
 
 
 if __name__ == "__main__":

@@ -2,10 +2,8 @@
 
 import unittest
 
-from tests.asking import BEGIN, BUILD, CHANGES, DIG, FAR, KEPT, WATER, ask, digs, last
+from tests.asking import BEGIN, BUILD, CHANGES, DIG, FAR, KEPT, SIZES, WATER, ask, digs, last
 from tests.plain_world import is_edge, neighbours, plain_answers, plain_ground
-
-SIZES = [(width, depth) for width in (8, 16, 24, 32) for depth in (8, 16, 24, 32)]
 
 
 def lower_way_out(ground, heights, start, top):
